@@ -1,0 +1,1 @@
+"""Dykelengths: a dyke kept by houses by lengths."""
