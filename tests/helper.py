@@ -1,6 +1,10 @@
 """What several tests need: layings, rows of each kind, and things of every kind."""
 
 from copy import deepcopy
+from random import Random
+
+from dykelengths.rolls import roll_of
+from dykelengths.rows import row_of
 
 LAYING = (("east", "ann", 30, 600), ("mid", "bob", 7, 0), ("west", "ann", 20, 100))
 
@@ -75,3 +79,175 @@ def letters(number):
 def alones(many):
     """So many unlike rows that any laying may have, in their order."""
     return tuple(("alone", letters(number), 3, "ann") for number in range(many))
+
+
+class Acres:
+    """The same dyke kept acre by acre and step by step, to hold the program's answers against."""
+
+    def __init__(self, laying):
+        self.acres = [(field, acre) for field, _, many, _ in laying for acre in range(many)]
+        self.land = {acre: acre[0] for acre in self.acres}
+        self.house = {field: house for field, house, _, _ in laying}
+        self.inches = {field: inches for field, _, _, inches in laying}
+        self.mender = {}
+        self.story = {acre: [(None, acre[0], self.house[acre[0]])] for acre in self.acres}
+
+    def held(self, land):
+        return [acre for acre in self.acres if self.land[acre] == land]
+
+    def reasons(self, row):
+        """All that keeps the row from being done, in the order in which it is told."""
+        kind, rest = row[0], row[3:]
+        stands = set(self.house)
+        if kind == "part":
+            told = {part[0] for part in rest[1]}
+            return [("land", rest[0] not in stands),
+                    ("acres", sum(part[2] for part in rest[1]) != len(self.held(rest[0]))),
+                    ("name", bool(told & (stands - {rest[0]})))]
+        if kind == "join":
+            return [("land", not set(rest[0]) <= stands),
+                    ("houses", len({self.house.get(land) for land in rest[0]}) > 1),
+                    ("name", rest[1] in stands - set(rest[0]))]
+        if kind == "forfeit":
+            return [("land", rest[0] not in stands), ("same", self.house.get(rest[0]) == rest[1])]
+        if kind == "mend":
+            return [("ring", self.leads_to(rest[1], rest[0]))]
+        if kind == "alone":
+            return [("none", rest[0] not in self.mender)]
+        if kind in ("breach", "view"):
+            return [("inch", rest[1] not in range(self.inches[rest[0]]))]
+        return []
+
+    def leads_to(self, house, goal):
+        if house == goal:
+            return True
+        return house in self.mender and self.leads_to(self.mender[house], goal)
+
+    def give(self, name, acres, land, house):
+        for acre in acres:
+            self.land[acre] = land
+            self.story[acre].append((name, land, house))
+
+    def do(self, row):
+        """Tells the row's word, and does it where it is done."""
+        for word, holds in self.reasons(row):
+            if holds:
+                return word
+        kind, name, rest = row[0], row[1], row[3:]
+        if kind == "part":
+            left = self.held(rest[0])
+            del self.house[rest[0]]
+            for land, house, many in rest[1]:
+                self.house[land] = house
+                self.give(name, left[:many], land, house)
+                left = left[many:]
+        if kind == "join":
+            house = self.house[rest[0][0]]
+            taken = [acre for land in rest[0] for acre in self.held(land)]
+            for land in rest[0]:
+                del self.house[land]
+            self.house[rest[1]] = house
+            self.give(name, taken, rest[1], house)
+        if kind == "forfeit":
+            self.house[rest[0]] = rest[1]
+            self.give(name, self.held(rest[0]), rest[0], rest[1])
+        if kind == "measure":
+            self.inches[rest[0]] = rest[1]
+        if kind == "mend":
+            self.mender[rest[0]] = rest[1]
+        if kind == "alone":
+            del self.mender[rest[0]]
+        return "done"
+
+    def lands(self):
+        told = []
+        for land in sorted(self.house):
+            pieces = []
+            for field, acre in self.held(land):
+                if pieces and pieces[-1][0] == field and pieces[-1][2] == acre:
+                    pieces[-1] = (field, pieces[-1][1], acre + 1)
+                else:
+                    pieces.append((field, acre, acre + 1))
+            told.append((land, self.house[land], tuple(pieces)))
+        return told
+
+    def bearer(self, field, inch):
+        """The acre that bears the inch, looked for among all of them; None where it isn't there."""
+        many = len([acre for acre in self.acres if acre[0] == field])
+        inches = self.inches[field]
+        if inch not in range(inches):
+            return None
+        return [acre for acre in range(many) if acre * inches <= inch * many < (acre + 1) * inches][0]
+
+
+HOUSES = ("ann", "bob", "cid")
+SMALL = (("east", "ann", 5, 7), ("mid", "bob", 1, 0), ("west", "ann", 4, 9), ("yonder", "cid", 3, 2))
+
+
+def made_part(chance, dyke):
+    """A land and parts, most often such as it can be parted into."""
+    lands = sorted(dyke.house)
+    land = chance.choice(lands + ["new"])
+    pool = set("pqrstuvwxyz") - set(lands) | {land, "far", "gone"}
+    if not chance.randrange(4):
+        pool |= set(lands)
+    names = chance.sample(sorted(pool), chance.choice((2, 2, 3)))
+    many = len(dyke.held(land)) + chance.choice((0, 0, 0, 0, 1))
+    first = chance.randrange(1, max(2, many - len(names) + 2))
+    acres = [first] + [1] * (len(names) - 2)
+    acres.append(max(1, many - sum(acres)))
+    return [land, [[name, chance.choice(HOUSES), some] for name, some in zip(names, acres)]]
+
+
+def made_join(chance, dyke):
+    lands = sorted(dyke.house)
+    house = chance.choice(HOUSES)
+    held = [land for land in lands if dyke.house[land] == house]
+    if len(held) < 2 or not chance.randrange(4):
+        held = lands + ["new"]
+    joined = chance.sample(held, chance.randrange(2, min(3, len(held)) + 1))
+    return [joined, chance.choice(joined + lands + ["j", "k", "l"])]
+
+
+def made_rest(chance, kind, dyke):
+    """What stands behind the day in a row of this kind."""
+    field = chance.choice(sorted(dyke.inches))
+    if kind == "part":
+        return made_part(chance, dyke)
+    if kind == "join":
+        return made_join(chance, dyke)
+    if kind == "forfeit":
+        return [chance.choice(sorted(dyke.house) + ["new"]), chance.choice(HOUSES)]
+    if kind == "measure":
+        return [field, chance.randrange(12)]
+    if kind == "mend":
+        return chance.sample(HOUSES, 2)
+    if kind == "alone":
+        return [chance.choice(HOUSES)]
+    if kind == "breach":
+        return [field, chance.randrange(9), 10, 1]
+    return [field, chance.randrange(9), chance.choice(HOUSES)]
+
+
+def made_rows(seed):
+    """Forty rows of SMALL, no two of one day, the same for the same seed; many of them done."""
+    chance = Random(seed)
+    dyke = Acres(SMALL)
+    rows = []
+    for day in range(40):
+        kind = chance.choice(("part", "part", "join", "join", "forfeit", "measure", "mend", "alone", "breach", "view"))
+        row = row_of([kind, letters(chance.randrange(400) * 40 + day), day] + made_rest(chance, kind, dyke))
+        dyke.do(row)
+        rows.append(row)
+    return rows
+
+
+def made_rolls(many):
+    """So many rolls of SMALL; in every third one several rows share a day, so that many come out of turn."""
+    told = []
+    for seed in range(many):
+        rows = made_rows(seed)
+        if seed % 3 == 2:
+            rows = [put(row, 2, row[2] // 4) for row in rows]
+        told.append(roll_of(SMALL, rows))
+    return told
