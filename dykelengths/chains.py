@@ -1,8 +1,7 @@
 """Chains: how an acre or an inch came to its land and house, from the first laying on."""
 
-from dykelengths.doings import Moment, carry_out, holder, lands_named
+from dykelengths.doings import Moment, bearing_acre, carry_out, holder, lands_named, moment_behind
 from dykelengths.errors import NoInch
-from dykelengths.lands import bearing_acre
 
 
 def chain_of_acre(roll, at, field, acre):
@@ -21,7 +20,7 @@ def chain_of_acre(roll, at, field, acre):
 
 def chain(roll, at, field, inch):
     """The chain of the acre that bears the inch, or NoInch."""
-    return chain_of_acre(roll, at, field, bearing_acre(roll, at, field, inch))
+    return chain_of_acre(roll, at, field, bearing_acre(moment_behind(roll, at), field, inch))
 
 
 def shows_chain(roll, at, field, inch, house, thing):

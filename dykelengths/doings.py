@@ -1,5 +1,7 @@
 """What rows do, one behind another, to lands, lengths and menders."""
 
+from dykelengths.errors import NoInch
+
 
 class Moment:
     """What holds behind some rows of a laying: a laying alone, until rows are carried out on it."""
@@ -7,11 +9,13 @@ class Moment:
     def __init__(self, laying):
         self.ranks = {}
         self.holdings = {}
+        self.acres = {}
         self.inches = {}
         self.menders = {}
         for field, house, acres, inches in laying:
             self.ranks[field] = len(self.ranks)
             self.holdings[field] = (house, ((field, 0, acres),))
+            self.acres[field] = acres
             self.inches[field] = inches
 
 
@@ -60,6 +64,14 @@ def holder(moment, field, acre):
         if place == field and low <= acre < high
     ]
     return held[0]
+
+
+def bearing_acre(moment, field, inch):
+    """The field's acre that bears the inch, or NoInch."""
+    inches = moment.inches[field]
+    if not 0 <= inch < inches:
+        raise NoInch("the field has no such inch")
+    return inch * moment.acres[field] // inches
 
 
 def lands_named(row):

@@ -1,7 +1,6 @@
 """Which rows are done, which lands there are, and how long fields are."""
 
 from dykelengths.doings import Moment, carry_out, moment_behind
-from dykelengths.errors import NoInch
 
 
 def words(roll):
@@ -20,12 +19,3 @@ def lands(roll, at):
 def inches_of(roll, at, field):
     """How many inches the field has."""
     return moment_behind(roll, at).inches[field]
-
-
-def bearing_acre(roll, at, field, inch):
-    """The field's acre that bears the inch, or NoInch."""
-    inches = inches_of(roll, at, field)
-    if not 0 <= inch < inches:
-        raise NoInch("the field has no such inch")
-    acres = {place[0]: place[2] for place in roll[0]}
-    return inch * acres[field] // inches

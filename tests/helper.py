@@ -179,6 +179,42 @@ class Acres:
             return None
         return [acre for acre in range(many) if acre * inches <= inch * many < (acre + 1) * inches][0]
 
+    def walk(self):
+        """Tuples (field, inch, land, house) of all inches, one behind another along the dyke."""
+        told = []
+        for field, inches in self.inches.items():
+            for inch in range(inches):
+                land = self.land[field, self.bearer(field, inch)]
+                told.append((field, inch, land, self.house[land]))
+        return told
+
+    def road(self, house):
+        return [house] + (self.road(self.mender[house]) if house in self.mender else [])
+
+    def tenders(self):
+        """Who tends each place."""
+        return [self.road(house)[-1] for _, _, _, house in self.walk()]
+
+
+def moments(roll):
+    """Tuples (at, dyke) of every moment of the roll; the dyke is good until the next one is asked for."""
+    dyke = Acres(roll[0])
+    yield 0, dyke
+    for at, row in enumerate(roll[1]):
+        dyke.do(row)
+        yield at + 1, dyke
+
+
+def in_runs(things):
+    """Tuples (low, high, thing) of things that are alike one behind another, each as long as can be."""
+    told = []
+    for place, thing in enumerate(things):
+        if told and told[-1][2] == thing:
+            told[-1] = (told[-1][0], place + 1, thing)
+        else:
+            told.append((place, place + 1, thing))
+    return told
+
 
 HOUSES = ("ann", "bob", "cid")
 SMALL = (("east", "ann", 5, 7), ("mid", "bob", 1, 0), ("west", "ann", 4, 9), ("yonder", "cid", 3, 2))
