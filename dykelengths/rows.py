@@ -19,13 +19,18 @@ ROW_DEPTH = 3
 RANKS = {"measure": 0, "part": 1, "join": 1, "forfeit": 1, "mend": 2, "alone": 2, "breach": 3, "view": 3}
 
 
+def is_number(thing):
+    """Whether it is a whole number; a truth is none."""
+    return isinstance(thing, int) and not isinstance(thing, bool)
+
+
 def is_whole(thing, least, most):
-    """Whether it is a whole number from least to most; a truth is none."""
-    return isinstance(thing, int) and not isinstance(thing, bool) and least <= thing <= most
+    """Whether it is a whole number from least to most."""
+    return is_number(thing) and least <= thing <= most
 
 
-def is_rising(names):
-    return list(names) == sorted(set(names))
+def is_rising(things):
+    return list(things) == sorted(set(things))
 
 
 def is_field(thing):

@@ -287,3 +287,47 @@ def made_rolls(many):
             rows = [put(row, 2, row[2] // 4) for row in rows]
         told.append(roll_of(SMALL, rows))
     return told
+
+
+def made_question(seed):
+    """A roll, how many rows it has, names of breaches, spades and a reach; the same for the same seed."""
+    chance = Random(seed)
+    houses = ["ann", "bob", "cid", "dan", "eve", "fay", "gil"]
+    laying = [(field, chance.choice(houses), 3, chance.randrange(1, 6)) for field in "abcdefgh"[:chance.randrange(1, 9)]]
+    rows = [["mend", "m" + letters(day), day] + chance.sample(houses, 2) for day in range(chance.randrange(3))]
+    names = chance.sample([letters(number) for number in range(30)], chance.randrange(13))
+    most = chance.choice((1, 3, 6, 10 ** 6))
+    for name in names:
+        field, _, _, inches = chance.choice(laying)
+        rows.append(["breach", name, 5, field, chance.randrange(inches), 0, chance.randrange(most + 1)])
+    spades = {house: chance.randrange(4 * most) for house in houses + ["nobody"] if chance.randrange(5)}
+    return roll_of(laying, rows), len(rows), names, spades, chance.choice((0, 1, 2, 3, 5, 40))
+
+
+def lots(names):
+    """All rising lists of some of the names, that of none among them."""
+    told = [[]]
+    for name in sorted(names):
+        told += [lot + [name] for lot in told]
+    return told
+
+
+def cells(wanted, pairs):
+    """All rising lists of tuples (house, breach, many) over the pairs, many up to what the breach wants."""
+    told = [[]]
+    for house, breach in pairs:
+        told = [row + ([(house, breach, many)] if many else []) for row in told for many in range(wanted[breach] + 1)]
+    return told
+
+
+def meets(wanted, spades, row):
+    """Whether such a list gives each breach what it wants, and takes from no house more than it has."""
+    got = {breach: sum(many for _, other, many in row if other == breach) for breach in wanted}
+    gave = [sum(many for other, _, many in row if other == house) <= spades.get(house, 0) for house, _, _ in row]
+    return got == wanted and all(gave)
+
+
+def gap(wanted, pairs, spades, lot):
+    """How many spades the lot lacks, below 0 where it lacks none."""
+    houses = {house for house, breach in pairs if breach in lot}
+    return sum(wanted[breach] for breach in lot) - sum(spades.get(house, 0) for house in houses)

@@ -31,24 +31,21 @@ BARRED_WORDS = re.compile(
     r"|NamedTuple|TypedDict|TYPE_CHECKING|abstractmethod)\b|dataclass|overload|contextmanager"
 )
 DUNDERS = {"__init__", "__eq__", "__repr__", "__str__", "__len__"}
-
-
-def trees():
-    return [(path.name, ast.parse(path.read_text())) for path in FILES]
+TREES = [(path.name, ast.parse(path.read_text())) for path in FILES]
 
 
 def nodes(kind):
-    return [(name, node) for name, tree in trees() for node in ast.walk(tree) if isinstance(node, kind)]
+    return [(name, node) for name, tree in TREES for node in ast.walk(tree) if isinstance(node, kind)]
 
 
-def top_names(tree):
+def top_names(tree, drawn_too=True):
     told = []
     for node in tree.body:
         if isinstance(node, (ast.FunctionDef, ast.ClassDef)):
             told.append(node.name)
         if isinstance(node, ast.Assign):
             told += [target.id for target in node.targets]
-        if isinstance(node, ast.ImportFrom):
+        if drawn_too and isinstance(node, ast.ImportFrom):
             told += [alias.asname or alias.name for alias in node.names]
     return told
 
@@ -57,7 +54,7 @@ def drawn():
     """For each module, the modules that it draws from."""
     return {
         name[:-3]: {node.module.split(".")[1] for node in tree.body if isinstance(node, ast.ImportFrom)}
-        for name, tree in trees()
+        for name, tree in TREES
     }
 
 
@@ -118,7 +115,7 @@ class Language(unittest.TestCase):
             self.assertFalse(hasattr(builtins, node.arg), (name, node.arg))
 
     def test_locals_are_not_called_as_the_top(self):
-        for name, tree in trees():
+        for name, tree in TREES:
             top = top_names(tree)
             self.assertEqual(len(top), len(set(top)), name)
             for node in [inner for outer in tree.body for inner in ast.walk(outer) if outer is not inner]:
@@ -137,15 +134,12 @@ class Language(unittest.TestCase):
             self.assertIn(node.attr, METHODS | methods | values, (name, node.lineno))
 
     def test_imports(self):
-        tops = {name[:-3]: top_names(tree) for name, tree in trees()}
+        defined = {name[:-3]: top_names(tree, drawn_too=False) for name, tree in TREES}
         for name, node in nodes(ast.ImportFrom):
             package, module = node.module.split(".")
             self.assertEqual((package, node.level), ("dykelengths", 0), name)
-            defined = [word for word in tops[module] if word not in
-                       [alias.name for other, drawer in nodes(ast.ImportFrom) if other == module + ".py"
-                        for alias in drawer.names]]
             for alias in node.names:
-                self.assertIn(alias.name, defined, name)
+                self.assertIn(alias.name, defined[module], name)
 
     def test_no_files_draw_from_one_another(self):
         left = drawn()
