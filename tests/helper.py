@@ -289,6 +289,49 @@ def made_rolls(many):
     return told
 
 
+def made_deeds(seed):
+    """Deeds of a log over SMALL, all of which can be done: some twice, some forms of one name, names taken back."""
+    chance = Random(seed)
+    rows = made_rows(seed)
+    if seed % 3 == 2:
+        rows = [put(row, 2, row[2] // 4) for row in rows]
+    twins = chance.sample(rows, 6)
+    forms = rows + [put(row, 2, row[2] + 100) for row in twins] + [put(row, 2, row[2] + 200) for row in twins[:2]]
+    told = [("write", row) for row in forms]
+    told += [("back", row[1]) for row in chance.sample(rows, 6)] + [("back", "nobody")]
+    told += chance.sample(told, 12)
+    chance.shuffle(told)
+    return told
+
+
+def stood(deeds):
+    """The rows that stand behind such deeds, looked for name by name."""
+    rows = [row for word, row in deeds if word == "write"]
+    backs = [name for word, name in deeds if word == "back"]
+    forms = {name: {row for row in rows if row[1] == name} for _, name, *_ in rows}
+    return {row for name, some in forms.items() for row in some if len(some) == 1 and name not in backs}
+
+
+def acre_by_acre(roll):
+    """The words of the roll's rows, and who has each acre behind them."""
+    dyke = Acres(roll[0])
+    words = {row[1]: dyke.do(row) for row in roll[1]}
+    return words, [(acre, dyke.house[dyke.land[acre]]) for acre in dyke.acres]
+
+
+def changes(ahead, behind):
+    """What turned and altered tell, looked for name by name and acre by acre."""
+    (words, houses), (others, heirs) = acre_by_acre(ahead), acre_by_acre(behind)
+    rows = [(name, words.get(name), others.get(name)) for name in sorted(set(words) | set(others))]
+    acres = []
+    for ((field, acre), house), (_, heir) in zip(houses, heirs):
+        if acres and (acres[-1][0],) + acres[-1][2:] == (field, acre, house, heir):
+            acres[-1] = (field, acres[-1][1], acre + 1, house, heir)
+        elif house != heir:
+            acres.append((field, acre, acre + 1, house, heir))
+    return [row for row in rows if row[1] != row[2]], acres
+
+
 def made_question(seed):
     """A roll, how many rows it has, names of breaches, spades and a reach; the same for the same seed."""
     chance = Random(seed)
