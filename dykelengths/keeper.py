@@ -27,9 +27,10 @@ class Keeper:
     def keep(self, deed, state):
         """Keeps a deed and the state behind it, and tells what it changed."""
         ahead, behind = self.roll(), roll_now(state)
+        changes = (turned(ahead, behind), altered(ahead, behind))
         self.told.append(deed)
         self.states.append(state)
-        return (turned(ahead, behind), altered(ahead, behind))
+        return changes
 
     def roll(self):
         """The roll of what stands."""
